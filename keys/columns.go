@@ -4,6 +4,7 @@ import (
 	"sigil/api"
 	"sigil/domain"
 	"sigil/field"
+	"sigil/label"
 	"sigil/params"
 )
 
@@ -25,7 +26,7 @@ func labelsOf(sort, k int, cells [][]api.Cell) ([][]api.Elem, api.Errno) {
 	if wrong != api.OK {
 		return nil, wrong
 	}
-	starts, wrong := startsOf(sort, len(cells))
+	starts, wrong := label.Starts(sort, len(cells))
 	if wrong != api.OK {
 		return nil, wrong
 	}
@@ -37,22 +38,6 @@ func labelsOf(sort, k int, cells [][]api.Cell) ([][]api.Elem, api.Errno) {
 		}
 	}
 	return labels, api.OK
-}
-
-// startsOf: the label of row 0 of each of so many places: the powers of 5^(2^s), s the field's 2-adicity, from 1 on.
-func startsOf(sort, places int) ([]api.Elem, api.Errno) {
-	adicity, wrong := field.Adicity(sort)
-	if wrong != api.OK {
-		return nil, wrong
-	}
-	d := field.Exp(sort, api.Elem{5}, api.Elem{1 << adicity})
-	starts := make([]api.Elem, places)
-	power := api.Elem{1}
-	for i := range starts {
-		starts[i] = power
-		power = field.Mul(sort, power, d)
-	}
-	return starts, api.OK
 }
 
 // commitments: to the polynomials that have those columns' values, each with the blind 1.
