@@ -7,6 +7,7 @@ import (
 	"sigil/msm"
 	"sigil/params"
 	"sigil/poly"
+	"sigil/step"
 	"sigil/tape"
 )
 
@@ -26,8 +27,8 @@ type opener struct {
 func (o *opener) hide(coeffs []api.Elem, blind, x api.Elem) {
 	s := o.zeroAt(x)
 	t := o.draw()
-	o.say(must(params.Commit(o.params, s, t)))
-	e := must(o.writer.Challenge())
+	o.say(step.Must(params.Commit(o.params, s, t)))
+	e := step.Must(o.writer.Challenge())
 	o.z = divisor(o.writer.Challenge())
 	sum := poly.Add(o.sort, coeffs, poly.Scale(o.sort, s, e))
 	// Sums are trimmed, but halves have to be of one length.
@@ -53,14 +54,14 @@ func (o *opener) zeroAt(x api.Elem) []api.Elem {
 func (o *opener) draw() api.Elem {
 	// Without a purse there are no coins.
 	if o.coins == nil {
-		refuse(api.ErrTape)
+		step.Refuse(api.ErrTape)
 	}
-	return field.Add(o.sort, must(o.coins.Next()), api.Elem{})
+	return field.Add(o.sort, step.Must(o.coins.Next()), api.Elem{})
 }
 
 // say: says a point.
 func (o *opener) say(p api.Point) {
-	done(o.writer.Point(p))
+	step.Done(o.writer.Point(p))
 }
 
 // halve: one round.
@@ -72,7 +73,7 @@ func (o *opener) halve() {
 	o.say(o.cross(aHigh, bLow, gLow, l))
 	o.say(o.cross(aLow, bHigh, gHigh, r))
 	u := divisor(o.writer.Challenge())
-	back := must(field.Inv(o.sort, u))
+	back := step.Must(field.Inv(o.sort, u))
 	o.a = folded(o.sort, aLow, aHigh, back)
 	o.b = folded(o.sort, bLow, bHigh, u)
 	o.g = foldedPoints(o.params.Curve, gLow, gHigh, u)
@@ -86,7 +87,7 @@ func (o *opener) cross(a, b []api.Elem, g []api.Point, blind api.Elem) api.Point
 	for i, v := range a {
 		terms = append(terms, api.Term{K: v, P: g[i]})
 	}
-	return must(msm.Sum(o.params.Curve, terms))
+	return step.Must(msm.Sum(o.params.Curve, terms))
 }
 
 // end: says what is left of the polynomial, and the blind.

@@ -5,6 +5,7 @@ import (
 	"sigil/curve"
 	"sigil/field"
 	"sigil/poly"
+	"sigil/step"
 	"sigil/tape"
 )
 
@@ -35,22 +36,22 @@ func checkPoints(c int, terms []api.Term) api.Errno {
 // hear: what is said of an opening of that size.
 func hear(r *tape.Reader, k int) heard {
 	var h heard
-	h.s = must(r.Point())
-	h.e = must(r.Challenge())
+	h.s = step.Must(r.Point())
+	h.e = step.Must(r.Challenge())
 	h.z = divisor(r.Challenge())
 	for range k {
 		h.rounds = append(h.rounds, hearRound(r))
 	}
-	h.a = must(r.Scalar())
-	h.blind = must(r.Scalar())
+	h.a = step.Must(r.Scalar())
+	h.blind = step.Must(r.Scalar())
 	return h
 }
 
 // hearRound: what is said in the next round.
 func hearRound(r *tape.Reader) round {
 	var next round
-	next.l = must(r.Point())
-	next.r = must(r.Point())
+	next.l = step.Must(r.Point())
+	next.r = step.Must(r.Point())
 	next.u = divisor(r.Challenge())
 	return next
 }
@@ -65,7 +66,7 @@ func (h heard) terms(p api.Params, commitment []api.Term, x, v api.Elem) []api.T
 	add(field.Neg(sort, v), p.G[0])
 	add(h.e, h.s)
 	for _, next := range h.rounds {
-		add(must(field.Inv(sort, next.u)), next.l)
+		add(step.Must(field.Inv(sort, next.u)), next.l)
 		add(next.u, next.r)
 	}
 	less := field.Neg(sort, h.a)
