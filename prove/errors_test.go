@@ -9,6 +9,7 @@ import (
 	"sigil/circuit"
 	"sigil/curve"
 	"sigil/params"
+	"sigil/sample"
 	"sigil/sheet"
 	"sigil/tape"
 )
@@ -46,9 +47,9 @@ func (s *stream) some(look func(o task)) {
 			if curve > 1 && k > 3 {
 				continue
 			}
-			c, filled := told(9)
+			c, filled := sample.Told(9)
 			if k < 5 {
-				c, filled = s.drawn(curve, k)
+				c, filled = sample.Drawn(s.word(), curve, k)
 			}
 			look(s.taskOf(curve, k, c, filled))
 		}
@@ -59,9 +60,9 @@ func (s *stream) some(look func(o task)) {
 
 func TestProveRefusesWhatIsGiven(t *testing.T) {
 	s := stream(10)
-	c, filled := squares(2, 4, 3, 9)
+	c, filled := sample.Squares(2, 4, 3, 9)
 	o := s.taskOf(0, 3, c, filled)
-	broken, broke := squares(2, 4, 3, 8)
+	broken, broke := sample.Squares(2, 4, 3, 8)
 	worse := func(o task) []task {
 		list := []task{o, o, o, o, o, o}
 		list[1].circuit = api.Circuit{}
@@ -143,12 +144,12 @@ func TestProveRefusesWhatIsBroken(t *testing.T) {
 	for curve := range 4 {
 		for k := 3; k <= 5; k++ {
 			for _, of := range []func() (api.Circuit, api.Sheet){
-				func() (api.Circuit, api.Sheet) { return squares(2, 4, 3, 8) },
-				func() (api.Circuit, api.Sheet) { return squares(1, 1, 1, 1, 1, 1, 0, 1) },
-				func() (api.Circuit, api.Sheet) { return told(8) },
-				func() (api.Circuit, api.Sheet) { return told(0) },
-				func() (api.Circuit, api.Sheet) { return table(4, 5) },
-				func() (api.Circuit, api.Sheet) { return table(0, 0, 0, 2) },
+				func() (api.Circuit, api.Sheet) { return sample.Squares(2, 4, 3, 8) },
+				func() (api.Circuit, api.Sheet) { return sample.Squares(1, 1, 1, 1, 1, 1, 0, 1) },
+				func() (api.Circuit, api.Sheet) { return sample.Told(8) },
+				func() (api.Circuit, api.Sheet) { return sample.Told(0) },
+				func() (api.Circuit, api.Sheet) { return sample.Table(4, 5) },
+				func() (api.Circuit, api.Sheet) { return sample.Table(0, 0, 0, 2) },
 			} {
 				c, filled := of()
 				o := s.taskOf(curve, k, c, filled)
@@ -269,7 +270,7 @@ func TestProveByNothing(t *testing.T) {
 	s := stream(17)
 	for curve := range 4 {
 		// With a beta of 0 what is divided by is a value and gamma.
-		c, filled := told(9)
+		c, filled := sample.Told(9)
 		o := s.taskOf(curve, 3, c, filled)
 		for _, v := range []int64{0, -4, -9} {
 			gamma := elemOf(o.by().number(v)[0])
@@ -277,7 +278,7 @@ func TestProveByNothing(t *testing.T) {
 		}
 		o.with(betaAt, api.Elem{}).with(gammaAt, api.Elem{2}).asSaid(t)
 		// Of what is sorted beta, of what is matched gamma.
-		c, filled = table(4, 9)
+		c, filled = sample.Table(4, 9)
 		o = s.taskOf(curve, 3, c, filled)
 		for _, place := range []int{betaAt, gammaAt} {
 			for _, v := range []int64{0, -4, -9} {
@@ -300,7 +301,7 @@ func TestProveByNothing(t *testing.T) {
 // The other challenges may be 0.
 func TestProveByOtherNothing(t *testing.T) {
 	s := stream(18)
-	c, filled := full()
+	c, filled := sample.Full()
 	for curve := range 2 {
 		o := s.taskOf(curve, 3, c, filled)
 		for _, place := range []int{0, 3, 5, 6, 8} {
@@ -375,7 +376,7 @@ func TestProveOfWhatIsSpoilt(t *testing.T) {
 	met := map[api.Errno]int{}
 	for i := range 400 {
 		curve, k := i%2, 3+i%3
-		c, filled := s.drawn(curve, k)
+		c, filled := sample.Drawn(s.word(), curve, k)
 		o := s.taskOf(curve, k, c, filled)
 		o.coins, o.src.Tape = s.elems(400), s.elems(40)
 		s.spoil(&o)
@@ -400,7 +401,7 @@ func TestAsks(t *testing.T) {
 	s := stream(20)
 	for i := range 200 {
 		k := 3 + i%3
-		c, _ := s.drawn(i%4, k)
+		c, _ := sample.Drawn(s.word(), i%4, k)
 		got, e := Asks(c, k)
 		if want := asksBy(c, k); e != api.OK || !slices.Equal(got, want) {
 			t.Errorf("Asks(%v, %d): %v, %d, not %v", c, k, got, e, want)
@@ -416,7 +417,7 @@ func TestAsks(t *testing.T) {
 	if got, e := Asks(c, 4); e != api.OK || !slices.Equal(got, want) {
 		t.Errorf("%v, %d", got, e)
 	}
-	least, _ := least()
+	least, _ := sample.Least()
 	for k := 3; k <= 5; k++ {
 		if got, e := Asks(least, k); e != api.OK || !slices.Equal(got, []api.Ask{{Poly: 1}, {Poly: 2}}) {
 			t.Errorf("%v, %d", got, e)
@@ -425,7 +426,7 @@ func TestAsks(t *testing.T) {
 }
 
 func TestAsksRefuses(t *testing.T) {
-	c, _ := full()
+	c, _ := sample.Full()
 	for _, k := range wrongSizes {
 		for _, of := range []struct {
 			c    api.Circuit

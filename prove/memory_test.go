@@ -7,6 +7,7 @@ import (
 	"testing"
 
 	"sigil/api"
+	"sigil/sample"
 )
 
 // watch is memory that is handed in, with what lies behind the lists' length, and how it was.
@@ -67,7 +68,7 @@ func TestWhatIsHandedInIsAsItWas(t *testing.T) {
 	s := stream(30)
 	for i := range 24 {
 		curve, k := i%4, 3+i/4%3
-		c, filled := s.drawn(curve, k)
+		c, filled := sample.Drawn(s.word(), curve, k)
 		o, w := s.watched(s.taskOf(curve, k, c, filled))
 		o.src.Mode = i / 2 % 2
 		o.proved(t)
@@ -85,7 +86,7 @@ func TestWhatIsHandedInIsAsItWas(t *testing.T) {
 		w.unchanged(t, "by a Prove that is refused")
 	}
 	// All columns have a value in each usable row, and there is as much as there may be.
-	c, filled := s.deep(0, 3)
+	c, filled := sample.Deep(s.word(), 0, 3)
 	o, w := s.watched(s.taskOf(0, 3, c, filled))
 	o.proved(t)
 	w.unchanged(t, "by Prove")
@@ -93,7 +94,7 @@ func TestWhatIsHandedInIsAsItWas(t *testing.T) {
 
 func TestWhatIsAnsweredIsNewMemory(t *testing.T) {
 	s := stream(31)
-	c, filled := full()
+	c, filled := sample.Full()
 	o := s.taskOf(0, 3, c, filled)
 	first := o.proved(t)
 	kept := bytes.Clone(first)
@@ -121,7 +122,7 @@ func TestOneCallAfterAnother(t *testing.T) {
 	var tasks []task
 	var proofs [][]byte
 	for i := range 8 {
-		c, filled := s.drawn(i%2, 3)
+		c, filled := sample.Drawn(s.word(), i%2, 3)
 		o := s.taskOf(i%2, 3, c, filled)
 		tasks, proofs = append(tasks, o), append(proofs, o.proved(t))
 	}

@@ -5,6 +5,7 @@ import (
 	"testing"
 
 	"sigil/api"
+	"sigil/sample"
 )
 
 // proved: the proof that Prove answers.
@@ -68,7 +69,7 @@ func TestProveOfAny(t *testing.T) {
 		if i%20 == 0 {
 			curve, k = 2+i/20%2, 3
 		}
-		c, filled := s.drawn(curve, k)
+		c, filled := sample.Drawn(s.word(), curve, k)
 		s.taskOf(curve, k, c, filled).bothAsSaid(t)
 	}
 }
@@ -78,7 +79,7 @@ func TestTheLeastProof(t *testing.T) {
 	s := stream(4)
 	for curve := range 4 {
 		for k := 3; k <= 5; k++ {
-			c, filled := least()
+			c, filled := sample.Least()
 			o := s.taskOf(curve, k, c, filled)
 			// What multi says of one set: a point, a scalar, and ipa's.
 			if got, want := len(o.proved(t)), 32*(3+2+1+1+3+2*k); got != want {
@@ -95,13 +96,13 @@ func TestTheLeastProof(t *testing.T) {
 func TestTheExamples(t *testing.T) {
 	s := stream(5)
 	for curve := range 4 {
-		c, filled := table(4, 9)
+		c, filled := sample.Table(4, 9)
 		s.taskOf(curve, 3, c, filled).bothAsSaid(t)
-		c, filled = told(9)
+		c, filled = sample.Told(9)
 		o := s.taskOf(curve, 3, c, filled)
 		o.bothAsSaid(t)
 		proof := o.proved(t)
-		o.sheet.Instance = [][]api.Elem{column(9, 1)}
+		o.sheet.Instance = [][]api.Elem{sample.Column(9, 1)}
 		if o.accepted(t, proof) {
 			t.Error("the proof is accepted with another instance")
 		}
@@ -113,7 +114,7 @@ func TestProveOfOtherNumbers(t *testing.T) {
 	s := stream(6)
 	for i := range 12 {
 		curve, k := i%4, 3+i/4%2
-		c, filled := s.drawn(curve, k)
+		c, filled := sample.Drawn(s.word(), curve, k)
 		o := s.taskOf(curve, k, c, filled)
 		o.src.Mode = i / 2 % 2
 		want := o.proved(t)
@@ -150,10 +151,10 @@ func TestProveOfOtherNumbers(t *testing.T) {
 // Zeros at a column's end, told or not, are the same.
 func TestProveOfZerosAtTheEnd(t *testing.T) {
 	s := stream(7)
-	c, filled := squares(2, 4, 3, 9)
+	c, filled := sample.Squares(2, 4, 3, 9)
 	o := s.taskOf(0, 4, c, filled)
 	want := o.proved(t)
-	_, o.sheet = squares(2, 4, 3, 9, 0, 0, 0, 0)
+	_, o.sheet = sample.Squares(2, 4, 3, 9, 0, 0, 0, 0)
 	if !bytes.Equal(o.proved(t), want) {
 		t.Error("zeros at the end give another proof")
 	}
